@@ -1,0 +1,1 @@
+"""Carrytower: groups laid upon groups by carries."""
