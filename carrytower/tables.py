@@ -52,7 +52,16 @@ class Table:
         """What x and y carry."""
         self.upper.need(x)
         self.upper.need(y)
+        return self.carry_of(x, y)
+
+    def carry_of(self, x, y):
+        """What x and y carry, which surely are elements."""
         return self.kept[(x, y)]
+
+    def first_carry(self):
+        """What the upper group's nought and itself carry; this may be any element."""
+        nought = self.upper.nought()
+        return self.carry_of(nought, nought)
 
     def carries(self):
         """All carries, as a new dict."""

@@ -1,9 +1,11 @@
-"""What several tests need: any things, a walk of their own over the rules, a group on a group."""
+"""What several tests need: any things, a walk of their own over the rules, models of groups on groups."""
 
+from functools import cache
 from random import Random
 
-from carrytower.groups import Group, Rounds
-from carrytower.tables import Table, alike, break_of_two
+from carrytower.groups import Rounds
+from carrytower.tables import Table
+from carrytower.towers import Tower
 
 
 class SaysEqual:
@@ -62,6 +64,18 @@ def all_tuples(rounds):
     return [(k,) + rest for k in range(rounds[0]) for rest in all_tuples(rounds[1:])]
 
 
+def all_rounds(most):
+    """Every tuple of rounds whose product is at most the bound."""
+    found = [()]
+    begun = [((), 1)]
+    while begun:
+        rounds, size = begun.pop()
+        for n in range(2, most // size + 1):
+            found.append(rounds + (n,))
+            begun.append((rounds + (n,), size * n))
+    return found
+
+
 def walk_three(lower, upper, carries):
     """All triples that break the rule for three, by rounds alone."""
     members = all_tuples(upper)
@@ -86,63 +100,147 @@ def any_carries(lower, upper, seed):
     return {(x, y): chance.choice(below) for x in members for y in members}
 
 
-def ruled_carries(lower, upper, seed):
+class Model:
+    """A group walked by the words of the document: all tuples, or all pairs over another one, by carries."""
+
+    def __init__(self, upper, lower=None, carries=None):
+        self.upper, self.lower, self.carries = upper, lower, carries
+        above = all_tuples(upper)
+        self.members = above if lower is None else sorted((a, x) for a in lower.members for x in above)
+        self.sums = {(p, q): self.reckoned(p, q) for p in self.members for q in self.members}
+        self.nought, = [e for e in self.members
+                        if all(self.sums[(e, p)] == p == self.sums[(p, e)] for p in self.members)]
+        self.backs = {p: q for p, q in self.sums if self.sums[(p, q)] == self.nought}
+
+    def reckoned(self, p, q):
+        if self.lower is None:
+            return add_places(self.upper, p, q)
+        (a, x), (b, y) = p, q
+        return (self.lower.total([a, b, self.carries[(x, y)]]), add_places(self.upper, x, y))
+
+    def total(self, some):
+        reached = self.nought
+        for p in some:
+            reached = self.sums[(reached, p)]
+        return reached
+
+    def order(self, p):
+        n, reached = 1, p
+        while reached != self.nought:
+            n, reached = n + 1, self.sums[(reached, p)]
+        return n
+
+    def spec(self):
+        """Both groups and all carries, down to the ground."""
+        if self.lower is None:
+            return self.upper
+        return (self.upper, self.lower.spec(), sorted(self.carries.items()))
+
+    def is_even(self):
+        return all(self.sums[(p, q)] == self.sums[(q, p)] for p, q in self.sums)
+
+    def table(self):
+        """The program's table below the program's tower, made anew down to the ground."""
+        return Table(self.lower.group(), Rounds(self.upper), dict(self.carries))
+
+    def group(self):
+        """The program's own group, made anew down to the ground."""
+        return Rounds(self.upper) if self.lower is None else Tower(self.table())
+
+
+def any_over(lower, upper, seed):
+    """Carries into a model without any rule."""
+    chance = Random(seed)
+    return {(x, y): chance.choice(lower.members) for x in all_tuples(upper) for y in all_tuples(upper)}
+
+
+def own_carries(lower, upper, h):
+    """The carries of a relabeling's own table."""
+    members = all_tuples(upper)
+    return {(x, y): lower.total([h[x], h[y], lower.backs[h[add_places(upper, x, y)]]]) for x in members for y in members}
+
+
+def any_labels(lower, upper, seed):
+    """A relabeling."""
+    chance = Random(seed)
+    return {x: chance.choice(lower.members) for x in all_tuples(upper)}
+
+
+def ruled_over(lower, upper, seed):
     """Even carries that keep the rule for three: a carry by columns and a relabeling's own table."""
     chance = Random(seed)
-    below, members = all_tuples(lower), all_tuples(upper)
-    columns = [chance.choice(below) for _ in upper]
-    relabel = {x: chance.choice(below) for x in members}
-    carries = {}
-    for x in members:
-        for y in members:
-            apart = relabel[add_places(upper, x, y)]
-            sums = [p + q - r for p, q, r in zip(relabel[x], relabel[y], apart)]
-            for column, k, m, n in zip(columns, x, y, upper):
-                if k + m >= n:
-                    sums = [s + c for s, c in zip(sums, column)]
-            carries[(x, y)] = tuple(s % n for s, n in zip(sums, lower))
+    columns = [chance.choice(lower.members) for _ in upper]
+    carries = own_carries(lower, upper, any_labels(lower, upper, seed))
+    for x, y in carries:
+        full = [column for column, k, m, n in zip(columns, x, y, upper) if k + m >= n]
+        carries[(x, y)] = lower.total([carries[(x, y)]] + full)
     return carries
 
 
-class Pile(Group):
-    """A group on a group by a table's carries: what a table's lower group may be beside one by rounds."""
-
-    def __init__(self, table):
-        self.table = table
-
-    def members(self):
-        return [(a, x) for a in self.table.lower.members() for x in self.table.upper.members()]
-
-    def has(self, thing):
-        if not isinstance(thing, tuple) or len(thing) != 2:
-            return False
-        return self.table.lower.has(thing[0]) and self.table.upper.has(thing[1])
-
-    def nought(self):
-        bottom = self.table.upper.nought()
-        return (self.table.lower.back(self.table.carry(bottom, bottom)), bottom)
-
-    def like(self, other):
-        return isinstance(other, Pile) and alike(self.table, other.table)
-
-    def is_even(self):
-        return break_of_two(self.table) is None
-
-    def sum_of(self, x, y):
-        lower, upper = self.table.lower, self.table.upper
-        return (lower.total([x[0], y[0], self.table.carry(x[1], y[1])]), upper.added(x[1], y[1]))
-
-    def back_of(self, x):
-        return [y for y in self.members() if self.sum_of(x, y) == self.nought()][0]
+def paired_over(lower, upper, a, seed):
+    """Carries that keep the rule for three, but are not even: x_0 * y_1 times a, and even ones."""
+    carries = ruled_over(lower, upper, seed)
+    return {(x, y): lower.total([carries[(x, y)]] + [a] * (x[0] * y[1])) for x, y in carries}
 
 
-def even_pile(lower, upper, seed=0):
-    """A pile in which adding goes by any order."""
-    return Pile(Table(Rounds(lower), Rounds(upper), ruled_carries(lower, upper, seed)))
+def ruled_carries(lower, upper, seed):
+    """Even carries over two groups by rounds that keep the rule for three."""
+    return ruled_over(Model(lower), upper, seed)
 
 
-def uneven_pile():
-    """A pile of eight in which adding doesn't go by any order, and whose nought is not all 0."""
-    members = all_tuples((2, 2))
-    carries = {(x, y): ((1 + x[0] * y[1]) % 2,) for x in members for y in members}
-    return Pile(Table(Rounds((2,)), Rounds((2, 2)), carries))
+def walk_three_over(lower, upper, carries):
+    """All triples that break the rule for three, over a model."""
+    members = all_tuples(upper)
+    sums = {(x, y): add_places(upper, x, y) for x in members for y in members}
+    return [
+        (x, y, z)
+        for x in members for y in members for z in members
+        if lower.sums[(carries[(x, y)], carries[(sums[(x, y)], z)])]
+        != lower.sums[(carries[(y, z)], carries[(x, sums[(y, z)])])]
+    ]
+
+
+def stack(ground, uppers, seed=0):
+    """Floors of even carries, one upon the other."""
+    reached = Model(ground)
+    for upper in uppers:
+        reached = Model(upper, reached, ruled_over(reached, upper, seed))
+    return reached
+
+
+@cache
+def even_towers():
+    """Models of towers in which adding goes by any order: over rounds, and over one another up to eight floors."""
+    return [
+        stack((), [()]), stack((3,), [()]), stack((), [(3,)]), stack((2,), [(2,)], 1), stack((2,), [(2,)], 2),
+        stack((4,), [(2, 2)], 1), stack((2, 2), [(4,)], 2), stack((3,), [(2,)], 3), stack((5,), [(3, 3)], 4),
+        stack((2,), [(2,), (2,)], 1), stack((2,), [(2,), (2,)], 3), stack((3,), [(3,), (4,)], 2),
+        stack((2,), [(), (3,), (), (2, 2)], 5), stack((2,), [(2,), (2,), (2,), (3,)], 6),
+        stack((2,), [(2,), (), (2,), (), (), (), (), (2,)], 7),
+    ]
+
+
+@cache
+def great_towers():
+    """Models of towers of as many elements as there may be, or nearly so."""
+    return [
+        stack((16,), [(9,)], 1), stack((4, 4), [(3, 3)], 2), stack((2, 8), [(2, 4)], 3), stack((15,), [(9,)], 4),
+        stack((2,), [(2,), (2,), (2,), (2, 2, 2)], 5), stack((2,), [(2,), (), (2,), (), (2,), (), (), (9,)], 6),
+    ]
+
+
+def paired(lower, upper, a, seed):
+    """A model of an uneven tower."""
+    return Model(upper, lower, paired_over(lower, upper, a, seed))
+
+
+@cache
+def uneven_towers():
+    """Models of towers in which adding doesn't go by any order."""
+    two, high = stack((2,), [(2,)], 1), stack((2,), [(2,), (2,)], 3)
+    return [
+        paired(Model((2,)), (2, 2), (1,), 0), paired(Model((2,)), (2, 2), (1,), 3),
+        paired(Model((4,)), (2, 4), (2,), 1), paired(Model((3,)), (3, 3), (1,), 2),
+        paired(two, (2, 2), [a for a in two.members if two.order(a) == 2][0], 4),
+        paired(high, (2, 2, 2), [a for a in high.members if high.order(a) == 2][-1], 5),
+    ]

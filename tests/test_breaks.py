@@ -5,7 +5,10 @@ from random import Random
 
 from carrytower.groups import Rounds
 from carrytower.tables import Table, break_of_three, break_of_two
-from helper import Pile, add_places, all_tuples, any_carries, ruled_carries, walk_three, walk_two
+from helper import (
+    add_places, all_tuples, any_carries, any_over, even_towers, paired_over, ruled_carries, ruled_over, stack, walk_three,
+    walk_three_over, walk_two,
+)
 
 SHAPES = (
     ((), ()), ((3,), ()), ((), (2, 2)), ((2,), (2,)), ((4,), (2,)), ((2,), (2, 2)), ((3,), (3,)), ((2, 4), (4,)),
@@ -122,37 +125,55 @@ class Told(unittest.TestCase):
         self.assertIs(type(break_of_two(table)), tuple)
 
 
-class OverPiles(unittest.TestCase):
-    """The lower group may be another one than by rounds."""
+class OverTowers(unittest.TestCase):
+    """The lower group may be a tower whose table is even."""
 
-    def test_breaks_over_a_pile(self):
-        pile = Pile(made((2,), (2,), {((k,), (m,)): (1 - k * m,) for k in range(2) for m in range(2)}))
-        self.assertTrue(pile.is_even())
-        relabel = {(k,): pile.members()[k + 1] for k in range(3)}
-        members = all_tuples((3,))
-        carries = {
-            (x, y): pile.total([relabel[x], relabel[y], pile.back(relabel[add_places((3,), x, y)])])
-            for x in members for y in members
-        }
-        table = Table(pile, Rounds((3,)), carries)
-        self.assertNotEqual(table.carry((0,), (0,)), pile.nought())
-        self.assertIsNone(break_of_three(table))
-        self.assertIsNone(break_of_two(table))
-        for key in carries:
-            for other in pile.members():
-                self.held(pile, {**carries, key: other})
-
-    def held(self, pile, carries):
-        table = Table(pile, Rounds((3,)), carries)
-        members = all_tuples((3,))
-        threes = [
-            (x, y, z) for x in members for y in members for z in members
-            if pile.added(carries[(x, y)], carries[(add_places((3,), x, y), z)])
-            != pile.added(carries[(y, z)], carries[(x, add_places((3,), y, z))])
-        ]
-        twos = walk_two((3,), carries)
+    def held(self, lower, upper, carries):
+        table = Table(lower.group(), Rounds(upper), carries)
+        threes, twos = walk_three_over(lower, upper, carries), walk_two(upper, carries)
         self.assertEqual(break_of_three(table), min(threes) if threes else None)
         self.assertEqual(break_of_two(table), min(twos) if twos else None)
+        return bool(threes), bool(twos)
+
+    def lowers(self):
+        return [lower for lower in even_towers() if len(lower.members) <= 16]
+
+    def test_tables_that_keep_both_rules(self):
+        for seed, lower in enumerate(self.lowers()):
+            for upper in ((), (2,), (2, 2), (3, 3)):
+                self.assertEqual(self.held(lower, upper, ruled_over(lower, upper, seed)), (False, False))
+
+    def test_tables_that_keep_the_rule_for_three_alone(self):
+        for seed, lower in enumerate(self.lowers()):
+            for a in [a for a in lower.members if lower.order(a) == 2]:
+                for upper in ((2, 2), (4, 2)):
+                    self.assertEqual(self.held(lower, upper, paired_over(lower, upper, a, seed)), (False, True))
+
+    def test_tables_without_any_rule(self):
+        for seed, lower in enumerate(self.lowers()):
+            for upper in ((), (2,), (2, 2), (3,), (8,)):
+                self.held(lower, upper, any_over(lower, upper, seed))
+
+    def test_tables_broken_at_one_place(self):
+        for lower, upper in ((stack((2,), [(2,)], 1), (3,)), (stack((2,), [(2,), (2,)], 3), (2,))):
+            carries = ruled_over(lower, upper, 8)
+            seen = {self.held(lower, upper, {**carries, key: other})[0] for key in carries for other in lower.members}
+            self.assertEqual(seen, {True, False})
+
+    def test_tables_broken_at_more_places(self):
+        chance = Random(9)
+        for lower in self.lowers():
+            for upper in ((2, 2), (5,)):
+                carries = ruled_over(lower, upper, 9)
+                for many in (2, 4):
+                    broken = {key: chance.choice(lower.members) for key in chance.sample(sorted(carries), many)}
+                    self.held(lower, upper, {**carries, **broken})
+
+    def test_the_carry_of_noughts_may_be_any(self):
+        lower = stack((2,), [(2,), (2,)], 3)
+        for shift in lower.members:
+            carries = {key: lower.sums[(carried, shift)] for key, carried in ruled_over(lower, (2, 2), 7).items()}
+            self.assertEqual(self.held(lower, (2, 2), carries), (False, False))
 
 
 if __name__ == "__main__":

@@ -4,7 +4,7 @@ import unittest
 
 from carrytower.errors import NoElement, NoRounds
 from carrytower.groups import Group, Rounds
-from helper import add_places, all_tuples, even_pile, odd_things, uneven_pile
+from helper import add_places, all_tuples, odd_things, stack
 
 GOOD = (
     (), (2,), (3,), (144,), (143,), (2, 2), (2, 3), (3, 2), (2, 4), (4, 2), (12, 12), (2, 72), (72, 2), (9, 16),
@@ -254,45 +254,8 @@ class Likeness(unittest.TestCase):
 
     def test_a_group_that_is_not_by_rounds(self):
         for rounds in ((), (2,), (2, 2)):
-            self.assertIs(Rounds(rounds).like(even_pile((), rounds)), False)
-
-
-class AnyGroup(unittest.TestCase):
-    """Point 5: the methods of all groups, where adding doesn't go by any order."""
-
-    def test_added_total_times_order_back(self):
-        group = uneven_pile()
-        members = group.members()
-        nought = group.nought()
-        self.assertFalse(group.is_even())
-        self.assertTrue(any(group.added(x, y) != group.added(y, x) for x in members for y in members))
-        for x in members:
-            self.assertEqual(group.added(x, group.back(x)), nought)
-            self.assertEqual(group.added(group.back(x), x), nought)
-            for y in members:
-                self.assertEqual(group.added(x, y), group.sum_of(x, y))
-                self.assertEqual(group.total([x, y, x]), group.sum_of(group.sum_of(x, y), x))
-                self.assertEqual(group.total([x, y]), group.sum_of(x, y))
-            reached, orders = nought, []
-            for n in range(12):
-                self.assertEqual(group.times(n, x), reached)
-                self.assertEqual(group.times(-n, x), group.back(reached))
-                reached = group.sum_of(reached, x)
-                orders += [n + 1] if reached == nought else []
-            self.assertEqual(group.order(x), orders[0])
-            self.assertEqual(group.times(8 * 10 ** 58 + 3, x), group.times(3, x))
-        self.assertEqual(group.total([]), nought)
-        self.assertEqual(group.size(), 8)
-
-    def test_what_is_no_element(self):
-        group = uneven_pile()
-        good = group.members()[3]
-        for thing in odd_things() + [(0,), ((0,), (0, 2)), [(0,), (0, 0)], ((0,), (0, 0), 0), ((0,), (0, True))]:
-            for ask in (
-                lambda: group.added(thing, good), lambda: group.added(good, thing), lambda: group.back(thing),
-                lambda: group.times(0, thing), lambda: group.order(thing), lambda: group.total([good, thing]),
-            ):
-                self.assertRaises(NoElement, ask)
+            self.assertIs(Rounds(rounds).like(stack((), [rounds]).group()), False)
+            self.assertIs(Rounds(rounds).like(stack(rounds, [()]).group()), False)
 
 
 if __name__ == "__main__":

@@ -5,7 +5,7 @@ import unittest
 from carrytower.errors import NoCarry, NoElement, NoLower, NoUpper
 from carrytower.groups import Rounds
 from carrytower.tables import Table, alike
-from helper import Pile, all_tuples, any_carries, even_pile, odd_things, uneven_pile
+from helper import all_tuples, any_carries, any_over, even_towers, great_towers, odd_things, stack, uneven_towers
 
 SHAPES = (
     ((), ()), ((2,), ()), ((), (2,)), ((2,), (2,)), ((4,), (2, 2)), ((2, 4), (3,)), ((16,), (9,)), ((2, 2, 2, 2), (3, 3)),
@@ -167,36 +167,91 @@ class Refusing(unittest.TestCase):
         self.assertEqual((caught.exception.x, caught.exception.y), ((0, 0), (0, 0)))
 
 
-class OverOtherGroups(unittest.TestCase):
-    """A lower group needs adding by any order, not rounds; an upper one is by rounds alone."""
+class OverTowers(unittest.TestCase):
+    """A lower group may be a tower whose table is even; an upper one is by rounds alone."""
 
-    def test_an_even_pile_below(self):
-        pile = even_pile((2,), (2, 2))
-        picked = pile.members()
-        carries = {((k,), (m,)): picked[(k + 3 * m) % len(picked)] for k in range(3) for m in range(3)}
-        table = Table(pile, Rounds((3,)), carries)
-        self.assertIs(table.lower, pile)
-        self.assertEqual(table.carries(), carries)
-        for wrong in ((0,), ((0,), (0, 2)), [(0,), (0, 0)], ((0,), (0, 0), 0), None):
-            with self.assertRaises(NoCarry):
-                Table(pile, Rounds((3,)), {**carries, ((1,), (2,)): wrong})
+    def lowers(self):
+        return [lower for lower in even_towers() if len(lower.members) <= 16]
 
-    def test_an_uneven_pile_below(self):
+    def test_fields_and_carries(self):
+        for seed, model in enumerate(self.lowers()):
+            for upper in ((), (3,), (2, 2)):
+                carries = any_over(model, upper, seed)
+                below, handed = model.group(), {**carries, "beside": 1, (0, 0): None}
+                kept = dict(handed)
+                table = Table(below, Rounds(upper), handed)
+                self.assertEqual(handed, kept)
+                handed.clear()
+                self.assertIs(table.lower, below)
+                self.assertEqual(table.carries(), carries)
+                for (x, y), carried in carries.items():
+                    self.assertEqual(table.carry(x, y), carried)
+                table.carries().clear()
+                self.assertEqual(table.carries(), carries)
+
+    def refused(self, below, upper, carries, key):
+        with self.assertRaises(NoCarry) as caught:
+            Table(below, Rounds(upper), carries)
+        self.assertEqual((caught.exception.x, caught.exception.y), key)
+
+    def test_carries_that_are_no_elements(self):
+        model = stack((2,), [(2,), (2, 2)], 1)
+        below = model.group()
+        wrong = odd_things() + [
+            (0,), ((0,), (0,)), (((0,), (0,)), (0, 2)), (((0,), (2,)), (0, 0)), (((2,), (0,)), (0, 0)),
+            (((0,), (0,)), (0, 10 ** 59)), (((0,), (0,)), (0, -1)), (((0,), (0,)), (0, True)),
+            (((0,), (False,)), (0, 0)), (((True,), (0,)), (0, 0)), (((0,), (0,)), (0, 0), 0),
+            (((0,), (0,)), (0, 0), (0, 0)), (((0,), (0,)), (0, 0, 0)), (((0,), (0,), (0,)), (0, 0)),
+            [((0,), (0,)), (0, 0)], (((0,), (0,)), [0, 0]), ([(0,), (0,)], (0, 0)), (([0], (0,)), (0, 0)),
+            (((0,), (0,)),), ((0, 0), ((0,), (0,))), (None, (0, 0)), (((0,), (0,)), None), {((0,), (0,)): (0, 0)},
+        ]
+        carries = any_over(model, (3,), 2)
+        for key in carries:
+            for thing in wrong:
+                self.refused(below, (3,), {**carries, key: thing}, key)
+
+    def test_each_pair_lacking_and_the_first_of_several(self):
+        model = stack((2,), [(2,)], 1)
+        carries = any_over(model, (2, 2), 3)
+        keys = sorted(carries)
+        for at, key in enumerate(keys):
+            lacking = {other: carries[other] for other in keys if other != key}
+            self.refused(model.group(), (2, 2), lacking, key)
+            for later in keys[at + 1:]:
+                self.refused(model.group(), (2, 2), {**lacking, later: ((0,), (2,))}, key)
+                self.refused(model.group(), (2, 2), {later: None, **carries, key: 1}, key)
+
+    def test_a_tower_that_is_not_even_below(self):
+        for model in uneven_towers():
+            nought = model.nought
+            for upper in ((2,), (10,)):
+                with self.assertRaises(NoLower):
+                    Table(model.group(), Rounds(upper), constant(upper, nought))
+
+    def test_sixteen_and_more_in_the_tower_below(self):
+        for model in (stack((4,), [(2, 2)]), stack((2,), [(2,), (2,), (2,)]), stack((16,), [()]), stack((5,), [(3,)])):
+            table = Table(model.group(), Rounds((2,)), constant((2,), model.nought))
+            self.assertEqual(table.carry((1,), (1,)), model.nought)
+        for model in (stack((2,), [(9,)]), stack((9,), [(2,)]), stack((2,), [(3,), (3,)]), *great_towers()):
+            with self.assertRaises(NoLower):
+                Table(model.group(), Rounds((2,)), constant((2,), model.nought))
+
+    def test_seventeen_in_the_group_below(self):
         with self.assertRaises(NoLower):
-            Table(uneven_pile(), Rounds((2,)), {})
+            Table(Rounds((17,)), Rounds((2,)), constant((2,), (0,)))
 
-    def test_sixteen_and_eighteen_in_the_pile(self):
-        pile = even_pile((4,), (2, 2))
-        nought = pile.nought()
-        self.assertEqual(Table(pile, Rounds(()), {((), ()): nought}).carry((), ()), nought)
-        with self.assertRaises(NoLower):
-            Table(even_pile((2,), (9,)), Rounds(()), {})
-
-    def test_a_pile_above(self):
-        with self.assertRaises(NoUpper):
-            Table(Rounds((2,)), even_pile((2,), (2,)), {})
-        with self.assertRaises(NoLower):
-            Table(uneven_pile(), even_pile((2,), (2,)), {})
+    def test_a_tower_above(self):
+        for model in (*even_towers(), *uneven_towers()):
+            above = model.group()
+            carries = {(x, y): (0,) for x in above.members() for y in above.members()}
+            with self.assertRaises(NoUpper):
+                Table(Rounds((2,)), above, carries)
+            with self.assertRaises(NoUpper):
+                Table(even_towers()[3].group(), above, {})
+            with self.assertRaises(NoLower):
+                Table(uneven_towers()[0].group(), above, {})
+            with self.assertRaises(NoLower):
+                Table(Rounds((17,)), above, {})
 
     def test_no_group_at_all(self):
         for thing in odd_things():
@@ -206,13 +261,19 @@ class OverOtherGroups(unittest.TestCase):
                 Table(Rounds((2,)), thing, {})
 
     def test_alike(self):
-        one, other = even_pile((2,), (2,), 1), even_pile((2,), (2,), 1)
-        apart = Pile(made((2,), (2,), constant((2,), (1,))))
-        carries = {((k,), (m,)): one.members()[k + 2 * m] for k in range(2) for m in range(2)}
-        table = Table(one, Rounds((2,)), carries)
-        self.assertIs(alike(table, Table(other, Rounds((2,)), carries)), True)
-        self.assertNotEqual(one.table.carries(), apart.table.carries())
-        self.assertIs(alike(table, Table(apart, Rounds((2,)), carries)), False)
+        models = [stack((2,), [(2,)], seed) for seed in range(12)]
+        carries = {((k,), (m,)): models[0].members[k + 2 * m] for k in range(2) for m in range(2)}
+        seen = set()
+        for one in models:
+            for other in models:
+                wanted = one.carries == other.carries
+                seen.add(wanted)
+                tables = [Table(model.group(), Rounds((2,)), carries) for model in (one, other)]
+                self.assertIs(alike(*tables), wanted)
+        self.assertEqual(seen, {True, False})
+        table = Table(models[0].group(), Rounds((2,)), carries)
+        twisted = {**carries, ((0,), (1,)): ((0,), (0,))}
+        self.assertIs(alike(table, Table(models[0].group(), Rounds((2,)), twisted)), False)
 
 
 class Alike(unittest.TestCase):

@@ -5,22 +5,10 @@ import unittest
 from carrytower.errors import NoText
 from carrytower.groups import Rounds
 from carrytower.texts import element_text, read_element, read_rounds, rounds_text
-from helper import all_tuples
+from helper import all_rounds, all_tuples
 
 SIGNS = [chr(k) for k in range(32, 127) if chr(k) != "%"]
 GROUPS = ((), (2,), (9,), (10,), (12,), (100,), (144,), (2, 4), (4, 2), (12, 12), (2, 2, 3), (2,) * 7)
-
-
-def all_rounds(most):
-    """Every tuple of rounds whose product is at most the bound."""
-    found = [()]
-    begun = [((), 1)]
-    while begun:
-        rounds, size = begun.pop()
-        for n in range(2, most // size + 1):
-            found.append(rounds + (n,))
-            begun.append((rounds + (n,), size * n))
-    return found
 
 
 def near_texts(text):
