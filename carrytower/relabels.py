@@ -3,6 +3,7 @@
 from carrytower.errors import NoRelabeling
 from carrytower.tables import Table, need_lower, need_upper, pairs_of
 from carrytower.towers import Tower
+from carrytower.weighings import weighing
 
 
 def labels_of(lower, upper, h):
@@ -59,3 +60,23 @@ def levelled(table):
     away = table.lower.back_of(table.first_carry())
     h = {x: away for x in table.upper.members()}
     return (changed(table, h), h)
+
+
+def part_of(group, n, a):
+    """An element that taken n times is a; there must be one."""
+    return [b for b in group.members() if group.times(n, b) == a][0]
+
+
+def emptying(table):
+    """A relabeling by which a table of the kind nought, once changed, carries nothing."""
+    lower, upper = table.lower, table.upper
+    h = {upper.nought(): lower.back_of(table.first_carry())}
+    for i, e in enumerate(upper.heads()):
+        step = part_of(lower, upper.rounds[i], lower.back_of(weighing(table, i)))
+        # The elements labelled so far are led on by the head, once around its round.
+        front = list(h)
+        for k in range(1, upper.rounds[i]):
+            for x in front:
+                h[upper.sum_of(x, e)] = lower.total([h[x], step, table.carry_of(x, e)])
+            front = [upper.sum_of(x, e) for x in front]
+    return h

@@ -1,6 +1,6 @@
 """Tables of carries, and where they break the rules."""
 
-from carrytower.errors import NoCarry, NoLower, NoUpper
+from carrytower.errors import NoCarry, NoLower, NoTower, NotLike, NoUpper
 from carrytower.groups import Group, Rounds
 
 MOST_LOWER = 16
@@ -74,14 +74,21 @@ def break_of_three(table):
     carries = table.carries()
     members = table.upper.members()
     pairs = pairs_of(table.upper)
-    sums = {(x, y): table.upper.added(x, y) for x, y in pairs}
+    sums = {(x, y): table.upper.sum_of(x, y) for x, y in pairs}
     for x, y in pairs:
         for z in members:
-            one = lower.added(carries[(x, y)], carries[(sums[(x, y)], z)])
-            other = lower.added(carries[(y, z)], carries[(x, sums[(y, z)])])
+            one = lower.sum_of(carries[(x, y)], carries[(sums[(x, y)], z)])
+            other = lower.sum_of(carries[(y, z)], carries[(x, sums[(y, z)])])
             if one != other:
                 return (x, y, z)
     return None
+
+
+def need_three(table):
+    """Refuse a table that breaks the rule for three."""
+    three = break_of_three(table)
+    if three is not None:
+        raise NoTower(three)
 
 
 def break_of_two(table):
@@ -93,8 +100,17 @@ def break_of_two(table):
     return None
 
 
+def over_like(one, other):
+    """Whether two tables have like lower groups and like upper groups."""
+    return one.lower.like(other.lower) and one.upper.like(other.upper)
+
+
+def need_over_like(one, other):
+    """Refuse two tables that are not over like groups."""
+    if not over_like(one, other):
+        raise NotLike()
+
+
 def alike(one, other):
     """Whether two tables have like lower groups, like upper groups and the same carries."""
-    if not one.lower.like(other.lower) or not one.upper.like(other.upper):
-        return False
-    return one.carries() == other.carries()
+    return over_like(one, other) and one.carries() == other.carries()

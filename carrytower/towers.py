@@ -1,8 +1,7 @@
 """Towers: an upper group laid upon a lower one by a table's carries."""
 
-from carrytower.errors import NoTower
 from carrytower.groups import Group
-from carrytower.tables import alike, break_of_three, break_of_two
+from carrytower.tables import alike, break_of_two, need_three
 
 
 def sums_within(group):
@@ -15,9 +14,7 @@ class Tower(Group):
     """The group of all pairs of a lower and an upper element, added with the table's carries."""
 
     def __init__(self, table):
-        three = break_of_three(table)
-        if three is not None:
-            raise NoTower(three)
+        need_three(table)
         self.table = table
         # Each sum asks for two sums below: unkept, they would double with every floor.
         self.below = sums_within(table.lower)

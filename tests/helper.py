@@ -1,6 +1,7 @@
 """What several tests need: any things, a walk of their own over the rules, models of groups on groups."""
 
 from functools import cache
+from math import gcd
 from random import Random
 
 from carrytower.groups import Rounds
@@ -186,6 +187,74 @@ def paired_over(lower, upper, a, seed):
 def ruled_carries(lower, upper, seed):
     """Even carries over two groups by rounds that keep the rule for three."""
     return ruled_over(Model(lower), upper, seed)
+
+
+class Build:
+    """Carries over two groups by rounds that keep the rule for three, put together of columns, odds and labels."""
+
+    def __init__(self, lower, upper, columns, odd_ones, labels):
+        self.lower, self.upper, self.columns, self.odd_ones = lower, upper, columns, odd_ones
+        model = Model(lower)
+        self.carries = own_carries(model, upper, labels)
+        for x, y in self.carries:
+            parts = [c for c, k, m, n in zip(columns, x, y, upper) if k + m >= n]
+            for (i, j), a in odd_ones.items():
+                parts += [a] * (x[i] * y[j])
+            self.carries[(x, y)] = model.total([self.carries[(x, y)]] + parts)
+
+    def kind(self):
+        """Labels come and go around a round, so that only rests of the columns are left."""
+        rests = tuple(rest_of(self.lower, n, c) for n, c in zip(self.upper, self.columns))
+        return (rests, tuple(self.odd_ones[key] for key in sorted(self.odd_ones)))
+
+    def table(self):
+        return Table(Rounds(self.lower), Rounds(self.upper), dict(self.carries))
+
+
+def rest_of(rounds, n, a):
+    """The rest of an element but for n times, place by place."""
+    return tuple(k % gcd(m, n) for k, m in zip(a, rounds))
+
+
+def many_times(rounds, n, a):
+    """An element taken n times."""
+    return tuple(k * n % m for k, m in zip(a, rounds))
+
+
+def two_rounds(upper):
+    return [(i, j) for j in range(len(upper)) for i in range(j)]
+
+
+def odds_for(lower, upper, i, j):
+    """The elements that both rounds take to the nought."""
+    nought = (0,) * len(lower)
+    return [a for a in all_tuples(lower) if all(many_times(lower, upper[k], a) == nought for k in (i, j))]
+
+
+def any_build(lower, upper, seed, bare=False):
+    """A build of any parts, or of columns and odds alone."""
+    chance, below = Random(seed), all_tuples(lower)
+    columns = [chance.choice(below) for _ in upper]
+    odd_ones = {(i, j): chance.choice(odds_for(lower, upper, i, j)) for i, j in two_rounds(upper)}
+    labels = {x: (0,) * len(lower) if bare else chance.choice(below) for x in all_tuples(upper)}
+    return Build(lower, upper, columns, odd_ones, labels)
+
+
+def rebuilt(build, seed):
+    """A build of the same kind, but of other labels, and of columns that differ by so many times as the round tells."""
+    chance, below = Random(seed), all_tuples(build.lower)
+    columns = [add_places(build.lower, c, many_times(build.lower, n, chance.choice(below)))
+               for c, n in zip(build.columns, build.upper)]
+    return Build(build.lower, build.upper, columns, build.odd_ones, {x: chance.choice(below) for x in all_tuples(build.upper)})
+
+
+SHAPES = [
+    ((), ()), ((3,), ()), ((2, 2), ()), ((), (3,)), ((), (2, 2)), ((2,), (2,)), ((4,), (2,)), ((2,), (4,)), ((3,), (2,)),
+    ((6,), (4,)), ((6,), (6,)), ((12,), (8,)), ((16,), (9,)), ((9,), (9,)), ((2, 4), (4,)), ((4, 2), (6,)),
+    ((2,), (2, 2)), ((4,), (2, 4)), ((4,), (4, 2)), ((8,), (2, 4)), ((3,), (3, 3)), ((9,), (3, 3)), ((3, 3), (3, 3)),
+    ((2, 2), (2, 2)), ((2, 3), (2, 3)), ((6,), (3, 2)), ((2, 8), (2, 4)), ((16,), (2, 2, 2)), ((2,), (2, 2, 2)),
+    ((2, 2), (2, 2, 2)), ((4, 4), (2, 2, 2)), ((2, 2, 2, 2), (2, 2, 2)), ((12,), (2, 4)), ((5,), (2, 2)),
+]
 
 
 def walk_three_over(lower, upper, carries):
