@@ -231,6 +231,51 @@ def odds_for(lower, upper, i, j):
     return [a for a in all_tuples(lower) if all(many_times(lower, upper[k], a) == nought for k in (i, j))]
 
 
+def head(upper, i):
+    return tuple(1 if at == i else 0 for at in range(len(upper)))
+
+
+def weighed(lower, upper, carries, i):
+    """The sum of carry(k e, e), added up one by one."""
+    e, reached = head(upper, i), (0,) * len(upper)
+    whole = (0,) * len(lower)
+    for _ in range(upper[i]):
+        whole = add_places(lower, whole, carries[(reached, e)])
+        reached = add_places(upper, reached, e)
+    return whole
+
+
+def less(rounds, a, b):
+    return tuple((k - m) % n for k, m, n in zip(a, b, rounds))
+
+
+def walked_kind(lower, upper, carries):
+    """The kind of carries, by the words of the document."""
+    rests = tuple(rest_of(lower, n, weighed(lower, upper, carries, i)) for i, n in enumerate(upper))
+    heads = [head(upper, i) for i in range(len(upper))]
+    pairs = sorted(two_rounds(upper))
+    return (rests, tuple(less(lower, carries[(heads[i], heads[j])], carries[(heads[j], heads[i])]) for i, j in pairs))
+
+
+def images_for(source, goal):
+    """For each round of the source the elements of the goal that it takes to the nought."""
+    nought = (0,) * len(goal)
+    return [[a for a in all_tuples(goal) if many_times(goal, n, a) == nought] for n in source]
+
+
+def any_images(source, goal, seed):
+    chance = Random(seed)
+    return [chance.choice(row) for row in images_for(source, goal)]
+
+
+def led_by(goal, images, x):
+    """Where images of the heads lead an element."""
+    reached = (0,) * len(goal)
+    for k, image in zip(x, images):
+        reached = add_places(goal, reached, many_times(goal, k, image))
+    return reached
+
+
 def any_build(lower, upper, seed, bare=False):
     """A build of any parts, or of columns and odds alone."""
     chance, below = Random(seed), all_tuples(lower)

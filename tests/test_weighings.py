@@ -8,8 +8,8 @@ from carrytower.relabels import changed
 from carrytower.tables import Table
 from carrytower.weighings import is_nought, kind_of, odds, rest_but_for, weighing
 from helper import (
-    SHAPES, Build, Model, add_places, all_rounds, all_tuples, any_build, any_carries, any_labels, many_times, odd_things,
-    rest_of, walk_three,
+    SHAPES, Build, Model, all_rounds, all_tuples, any_build, any_carries, any_labels, head, less, many_times, odd_things,
+    rest_of, walk_three, weighed,
 )
 
 NO_NUMBERS = [-1, -2, -3, -144, 10 ** 59, -(10 ** 59), 10 ** 60 - 1, 1 - 10 ** 60, 2 ** 64, -(2 ** 64)]
@@ -17,24 +17,6 @@ NO_NUMBERS = [-1, -2, -3, -144, 10 ** 59, -(10 ** 59), 10 ** 60 - 1, 1 - 10 ** 6
 
 def made(lower, upper, carries):
     return Table(Rounds(lower), Rounds(upper), carries)
-
-
-def head(upper, i):
-    return tuple(1 if at == i else 0 for at in range(len(upper)))
-
-
-def weighed(lower, upper, carries, i):
-    """The sum of carry(k e, e), added up one by one."""
-    e, reached = head(upper, i), (0,) * len(upper)
-    whole = (0,) * len(lower)
-    for _ in range(upper[i]):
-        whole = add_places(lower, whole, carries[(reached, e)])
-        reached = add_places(upper, reached, e)
-    return whole
-
-
-def less(rounds, a, b):
-    return tuple((k - m) % n for k, m, n in zip(a, b, rounds))
 
 
 class Weighings(unittest.TestCase):
